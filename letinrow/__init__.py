@@ -1,0 +1,1 @@
+"""Letinrow: a row in which friends are let in."""
