@@ -136,3 +136,24 @@ def plain_row(friends, order):
     for who in order:
         row = plain_come(friends, row, who)
     return tuple(row)
+
+
+def plain_loose(friends, row):
+    """Those of a row who can have come last: without them, coming, they come to stand so."""
+    found = []
+    for who in row:
+        others = [other for other in row if other != who]
+        if plain_come(friends, others, who) == list(row):
+            found.append(who)
+    return found
+
+
+def rows_and_friends():
+    """Each row of at most three people, and one row of four, with each FRIENDS among them."""
+    for many in range(4):
+        for friends in all_friends(NAMES[:many]):
+            for row in itertools.permutations(NAMES[:many]):
+                yield friends, row
+    # A row of four people needs no other turns: the names are no matter.
+    for friends in all_friends(NAMES[:4]):
+        yield friends, NAMES[:4]
