@@ -20,6 +20,12 @@ def bar_words(known, row, one, other):
     return words
 
 
+def barred_in(friends, row):
+    """A dict: of each one of the row the list of all whom it bars, in the row's order."""
+    known = both_ways(friends)
+    return {one: [other for other in row if bar_words(known, row, one, other)] for one in row}
+
+
 def bars(friends, row, one, other):
     """The rising list of the words by which one bars other in the row."""
     return bar_words(both_ways(friends), row, one, other)

@@ -4,31 +4,37 @@ from letinrow.errors import Here
 from letinrow.people import both_ways, last_friend_place
 
 
-def host_place(friends, row, who):
-    """The place of the one who lets who in, None where there's none."""
+def host_place(known, row, who):
+    """The place of the one who lets who in, None where there's none; known is what both_ways told."""
     if who in row:
         raise Here(who)
-    return last_friend_place(both_ways(friends), row, who)
+    return last_friend_place(known, row, who)
 
 
 def host_of(friends, row, who):
     """The last one in the row who is a friend of who, None where there's none."""
-    place = host_place(friends, row, who)
+    place = host_place(both_ways(friends), row, who)
     return None if place is None else row[place]
 
 
-def let_in(friends, row, who):
-    """The ROW behind who's coming."""
-    place = host_place(friends, row, who)
+def stood_in(known, row, who):
+    """The ROW behind who's coming; known is what both_ways told."""
+    place = host_place(known, row, who)
     at = len(row) if place is None else place + 1
     return tuple(row[:at]) + (who,) + tuple(row[at:])
 
 
+def let_in(friends, row, who):
+    """The ROW behind who's coming."""
+    return stood_in(both_ways(friends), row, who)
+
+
 def row_of(friends, order):
     """The ROW when these have come, one behind the other, to a bare row."""
+    known = both_ways(friends)
     row = ()
     for who in order:
-        row = let_in(friends, row, who)
+        row = stood_in(known, row, who)
     return row
 
 

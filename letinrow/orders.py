@@ -1,6 +1,7 @@
 """An order in which the people of a row can have come, or a ring that shows that there's none."""
 
 from letinrow.bars import bar_words
+from letinrow.errors import Stuck
 from letinrow.loose import gone_and_left
 from letinrow.people import both_ways
 
@@ -27,6 +28,14 @@ def ring_among(friends, row, left):
         path.append((who, word))
         who = other
     return path[places[who]:]
+
+
+def some_order(friends, row):
+    """An order of the row; Stuck where it has none."""
+    gone, left = gone_and_left(friends, row, ())
+    if left:
+        raise Stuck(left)
+    return gone[::-1]
 
 
 def order_of(friends, row):

@@ -7,6 +7,24 @@ import random
 import unittest
 
 NAMES = ("ann", "bob", "cy", "di", "eve", "flo")
+NO_NAMES = (
+    "", "abcdefghi", "A", "Ann", "anN", "a1", "7", "a b", " a", "a ", "a-b", "a_b", "-", "a\n", "\n",
+    "`", "{", "@", "[", "\u00e9", "\u00df", "\u0430", "a\u0301", "\uff41",
+    0, 1, -1, 97, True, False, None, (), [], ("a",), ["a"], ("a", "b"),
+)
+
+
+def nested(kind, core, deep):
+    for _ in range(deep):
+        core = kind([core])
+    return core
+
+
+OTHER_THINGS = (
+    None, True, False, 0, 1, -5, 10 ** 30, "", "a", "ab", "ann bob", "()",
+    nested(tuple, "a", 10), nested(list, "a", 10), nested(tuple, (), 9), nested(list, (), 9),
+    nested(tuple, ("a", "b"), 9), nested(list, ("a", "b"), 9), nested(tuple, None, 10),
+)
 
 
 def as_tuples(thing):
@@ -86,6 +104,17 @@ class Asking(unittest.TestCase):
             spoil(told)
             self.assert_same(self.ask(function, some, more), wanted)
 
+    def assert_judged(self, wanted, function, *places, **names):
+        """That this truth is told of the thing, the last one by place, which alone is handed in just as it is."""
+        *places, thing = places
+        for some, more in self.ways(function, places, names):
+            asks = [(some, {**more, "thing": thing})]
+            if some:
+                asks.append(([*some, thing], more))
+            for handed_in, named in asks:
+                told = self.ask(function, handed_in, named)
+                self.assertIs(told, wanted, f"{function.__name__} of {thing!r}")
+
     def assert_refused(self, error, fields, function, *places, **names):
         """That each way of asking is refused by that class with those fields."""
         for some, more in self.ways(function, places, names):
@@ -119,6 +148,27 @@ def by_chance(seed, people, chance, strangers=0):
     return friends, names[:people]
 
 
+def tampered(dice, thing):
+    """The thing with one place in it changed, as chance has it: something else there, or of another kind."""
+    parts = list(thing)
+    at = dice.randrange(len(parts)) if parts else 0
+    way = dice.randrange(7)
+    if way == 0 or not parts:
+        return tuple(parts) if isinstance(thing, list) else parts
+    if way == 1:
+        del parts[at]
+    elif way == 2:
+        parts.insert(dice.randrange(len(parts) + 1), parts[at])
+    elif way == 3:
+        other = dice.randrange(len(parts))
+        parts[at], parts[other] = parts[other], parts[at]
+    elif isinstance(parts[at], (list, tuple)) and way < 6:
+        parts[at] = tampered(dice, parts[at])
+    else:
+        parts[at] = dice.choice((None, True, 0, 1, -1, "", "ann", "zed", [], (), "friend", "between", "behind"))
+    return parts if isinstance(thing, list) else tuple(parts)
+
+
 def befriended(friends, one, other):
     return (min(one, other), max(one, other)) in [tuple(pair) for pair in friends]
 
@@ -146,6 +196,12 @@ def plain_loose(friends, row):
         if plain_come(friends, others, who) == list(row):
             found.append(who)
     return found
+
+
+def plain_orders(friends, row):
+    """All orders of a row, rising, each seen by itself."""
+    row = tuple(row)
+    return [list(order) for order in itertools.permutations(sorted(row)) if plain_row(friends, order) == row]
 
 
 def rows_and_friends():

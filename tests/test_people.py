@@ -4,28 +4,8 @@ import copy
 import itertools
 import unittest
 
-from asking import NAMES, Asking, all_friends, as_lists, befriended, by_chance, same
+from asking import NAMES, NO_NAMES, OTHER_THINGS, Asking, all_friends, as_lists, befriended, by_chance, same
 from letinrow.people import are_friends, friends_of, is_friends, is_row
-
-NO_NAMES = (
-    "", "abcdefghi", "A", "Ann", "anN", "a1", "7", "a b", " a", "a ", "a-b", "a_b", "-", "a\n", "\n",
-    "`", "{", "@", "[", "\u00e9", "\u00df", "\u0430", "a\u0301", "\uff41",
-    0, 1, -1, 97, True, False, None, (), [], ("a",), ["a"], ("a", "b"),
-)
-
-
-def nested(kind, core, deep):
-    for _ in range(deep):
-        core = kind([core])
-    return core
-
-
-OTHER_THINGS = (
-    None, True, False, 0, 1, -5, 10 ** 30, "", "a", "ab", "ann bob", "()",
-    nested(tuple, "a", 10), nested(list, "a", 10), nested(tuple, (), 9), nested(list, (), 9),
-    nested(tuple, ("a", "b"), 9), nested(list, ("a", "b"), 9), nested(tuple, None, 10),
-)
-
 
 class Things(Asking):
     def assert_is(self, wanted, function, thing):
