@@ -30,9 +30,11 @@ def hindmost_loose(known, row, but):
     return None
 
 
-def gone_and_left(friends, row, but):
-    """The pair of the list of goers, none of but, and the tuple of those who are left then."""
-    known = both_ways(friends)
+def gone_and_stayed(known, row, but):
+    """The pair of the list of goers, none of but, and the tuple of those who are left then.
+
+    known is what both_ways told.
+    """
     left = list(row)
     gone = []
     place = hindmost_loose(known, left, but)
@@ -40,6 +42,11 @@ def gone_and_left(friends, row, but):
         gone.append(left.pop(place))
         place = hindmost_loose(known, left, but)
     return (gone, tuple(left))
+
+
+def gone_and_left(friends, row, but):
+    """The same, by the friends as they are handed in."""
+    return gone_and_stayed(both_ways(friends), row, but)
 
 
 def goers(friends, row, *, but=()):

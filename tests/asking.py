@@ -204,6 +204,23 @@ def plain_orders(friends, row):
     return [list(order) for order in itertools.permutations(sorted(row)) if plain_row(friends, order) == row]
 
 
+def rows_with_orders():
+    """FRIENDS, a row, and all its orders: each that has some of at most four people, and some of five and six."""
+    for many in range(5):
+        for friends in all_friends(NAMES[:many]):
+            rows = {}
+            for order in itertools.permutations(NAMES[:many]):
+                rows.setdefault(plain_row(friends, order), []).append(list(order))
+            for row, orders in rows.items():
+                yield friends, row, orders
+    for many, step in ((5, 3), (6, 300)):
+        row = NAMES[:many]
+        for friends in itertools.islice(all_friends(row), 0, None, step):
+            orders = plain_orders(friends, row)
+            if orders:
+                yield friends, row, orders
+
+
 def rows_and_friends():
     """Each row of at most three people, and one row of four, with each FRIENDS among them."""
     for many in range(4):
