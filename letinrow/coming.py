@@ -17,10 +17,15 @@ def host_of(friends, row, who):
     return None if place is None else row[place]
 
 
+def coming_place(known, row, who):
+    """The place at which who comes to stand; known is what both_ways told."""
+    place = host_place(known, row, who)
+    return len(row) if place is None else place + 1
+
+
 def stood_in(known, row, who):
     """The ROW behind who's coming; known is what both_ways told."""
-    place = host_place(known, row, who)
-    at = len(row) if place is None else place + 1
+    at = coming_place(known, row, who)
     return tuple(row[:at]) + (who,) + tuple(row[at:])
 
 

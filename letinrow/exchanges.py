@@ -2,6 +2,7 @@
 
 from letinrow.coming import row_of
 from letinrow.errors import Apart
+from letinrow.people import is_number
 
 
 def exchanged(order, place):
@@ -46,11 +47,6 @@ def exchanges(friends, one, other):
             told.append(at)
             at = max(at - 1, 0)
     return told
-
-
-def is_number(thing):
-    """Whether a thing is a number: True and False are none."""
-    return isinstance(thing, int) and not isinstance(thing, bool)
 
 
 def shows_exchanges(friends, one, other, thing):

@@ -10,14 +10,22 @@ def line_of(served, row):
     return tuple(served) + tuple(row)
 
 
-def refuse_astray(line, elders):
-    """Astray of the first of the elders who isn't in the line, or not in its order."""
+def first_astray(line, elders):
+    """The first of the elders who isn't in the line, or not in its order; None where there's none."""
     places = {who: place for place, who in enumerate(line)}
     hindmost = -1
     for who in elders:
         if who not in places or places[who] < hindmost:
-            raise Astray(who)
+            return who
         hindmost = places[who]
+    return None
+
+
+def refuse_astray(line, elders):
+    """Astray of that one, where there's one."""
+    who = first_astray(line, elders)
+    if who is not None:
+        raise Astray(who)
 
 
 def traced_back(friends, served, row, elders, waits):

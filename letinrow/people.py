@@ -11,6 +11,11 @@ def is_name(thing):
     return all(["a" <= letter <= "z" for letter in thing])
 
 
+def is_number(thing):
+    """Whether a thing is a number: True and False are none."""
+    return isinstance(thing, int) and not isinstance(thing, bool)
+
+
 def is_friend_pair(thing):
     """Whether a thing is a pair of NAMEs, the first below the second."""
     if not isinstance(thing, tuple) or len(thing) != 2:
@@ -30,6 +35,11 @@ def is_row(thing):
     if not isinstance(thing, tuple) or not all([is_name(who) for who in thing]):
         return False
     return len(set(thing)) == len(thing)
+
+
+def pair_of(one, other):
+    """The pair of two unlike NAMEs, the lesser one first."""
+    return (one, other) if one < other else (other, one)
 
 
 def both_ways(friends):
