@@ -120,6 +120,25 @@ class Code(unittest.TestCase):
         for where, node in nodes(barred):
             self.fail(f"{where} {node}")
 
+    def test_no_name_is_a_method_and_an_attribute(self):
+        methods = {part.name for _, node in nodes(ast.ClassDef) for part in node.body if hasattr(part, "name")}
+        stored = {node.attr for _, node in nodes(ast.Attribute) if isinstance(node.ctx, ast.Store)}
+        self.assertIn("row", methods)
+        self.assertIn("number", stored)
+        self.assertEqual(methods & stored, set())
+
+    def test_iterated_at_once(self):
+        for where, node in nodes((ast.Assign, ast.Return)):
+            called = node.value.func if isinstance(node.value, ast.Call) else None
+            if isinstance(called, ast.Name):
+                self.assertNotIn(called.id, ("zip", "enumerate", "reversed", "range"), where)
+
+    def test_sets_are_not_iterated(self):
+        for where, node in nodes((ast.For, ast.comprehension)):
+            called = node.iter.func if isinstance(node.iter, ast.Call) else None
+            self.assertFalse(isinstance(called, ast.Name) and called.id == "set", where)
+            self.assertNotIsInstance(node.iter, (ast.Set, ast.SetComp), where)
+
     def test_is_only_of_none_true_false(self):
         for where, node in nodes(ast.Compare):
             for sign, right in zip(node.ops, node.comparators):
