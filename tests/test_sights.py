@@ -70,7 +70,7 @@ def rows_among(people):
 
 
 def sights_of_few():
-    """FRIENDS, served and sights, right ones and others: all of one and two sights of three people, some of more."""
+    """Served and sights, right ones and others: all of one and two sights of at most three people, some of three."""
     people = NAMES[:3]
     rows = list(rows_among(people))
     dice = random.Random(31)
@@ -215,12 +215,10 @@ class SeenAfter(Asking):
         # The row of a sight that has none may be gone on from: then a later one has none first.
         self.assert_seen(0, friends, (), [sights[0], (0, sights[0][1] + ("di",))])
 
-    def test_two_and_three_people_against_all_that_can_be_done(self):
+    def test_at_most_three_people_against_all_that_can_be_done(self):
         seen = {}
         for friends in all_friends(NAMES[:3]):
             for served, sights in sights_of_few():
-                if len(sights) > 1 and len(friends) == 3:
-                    continue
                 if plain_bad(served, sights) is not None:
                     continue
                 numbers = lacks(friends, served, sights)
